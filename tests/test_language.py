@@ -1,4 +1,8 @@
-"""Whether the program's files keep to the part of Python that it is written in (the rules L1 to L28)."""
+"""Whether the program's files keep to the part of Python that it is written in.
+
+Looked at, some of them in part: L1, L2, L4 to L8, L10, L12, L14 to L18, L20, L25 and L27. The others
+(L3, L9, L11, L13, L19, L21 to L24, L26 and L28) are left to the eye.
+"""
 
 import ast
 import builtins
