@@ -1,6 +1,7 @@
 """Statements written as texts, and texts read as statements."""
 
 from boxproof.errors import NoStatement
+from boxproof.rows import runs_in
 from boxproof.statements import PAIRS, QUANTIFIERS, is_letter, is_name, is_word
 
 RUN_SIGNS = "abcdefghijklmnopqrstuvwxyzABCDEFGHIJKLMNOPQRSTUVWXYZ0123456789"
@@ -36,7 +37,7 @@ def runs_of(text):
     spaced = text
     for sign in SINGLE_SIGNS:
         spaced = spaced.replace(sign, " " + sign + " ")
-    return [run for run in spaced.split(" ") if run != ""]
+    return runs_in(spaced)
 
 
 class Runs:

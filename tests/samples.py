@@ -1,4 +1,6 @@
-"""Statements that several tests ask about."""
+"""Statements and worlds that several tests ask about."""
+
+import itertools
 
 P = ("is", "p", ())
 Q = ("is", "q", ())
@@ -95,3 +97,21 @@ def chain(rule, length):
 
 
 CHAIN_RULES = ("not", "all", "some", "and", "or", "then")
+
+# Texts that are no name and no word by point 11.
+NO_WORDS = (
+    "", "abcdefghi", "Tom", "tOm", "toM", "X", "not", "and", "or", "then", "all", "some", "false", "0", "0a", "a b",
+    " a", "a ", "a\n", "a\t", "a_b", "a-b", "a.b", "a(", "a" * 1000,
+)
+
+
+def small_worlds(size, names, words):
+    """All worlds of this size; words are pairs of a word and how many things it is of."""
+    facts = []
+    for word, length in words:
+        facts.extend((word, things) for things in itertools.product(range(size), repeat=length))
+    facts.sort()
+    for things in itertools.product(range(size), repeat=len(names)):
+        called = tuple(zip(names, things))
+        for chosen in itertools.product((False, True), repeat=len(facts)):
+            yield (size, called, tuple(fact for fact, there in zip(facts, chosen) if there))

@@ -146,6 +146,13 @@ class Forms(unittest.TestCase):
         for place, node in all_nodes(ast.ExceptHandler):
             self.assertIsNotNone(node.type, place)
 
+    def test_what_stands_by_itself(self):
+        for file, tree in trees().items():
+            words = tree.body[0]
+            for node in ast.walk(tree):
+                if isinstance(node, ast.Expr) and node is not words:
+                    self.assertIsInstance(node.value, ast.Call, f"{file}.py:{node.lineno}")
+
     def test_values(self):
         for place, node in all_nodes(ast.Constant):
             self.assertIn(type(node.value), (int, str, bool, type(None)), place)
