@@ -1,4 +1,4 @@
-"""Statements and worlds that several tests ask about."""
+"""Statements, worlds and lines that several tests ask about."""
 
 import itertools
 
@@ -115,3 +115,8 @@ def small_worlds(size, names, words):
         called = tuple(zip(names, things))
         for chosen in itertools.product((False, True), repeat=len(facts)):
             yield (size, called, tuple(fact for fact, there in zip(facts, chosen) if there))
+
+
+def rows(*pairs):
+    """Lines of these levels and rules, as a tuple; what else stands in them is no affair of their boxes."""
+    return tuple((level, rule, None if rule == "new" else P, ()) for level, rule in pairs)

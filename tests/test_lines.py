@@ -1,39 +1,23 @@
 import itertools
 import unittest
 
+from plain_steps import plain_boxes
 from refusals import refused_with
-from samples import P
+from samples import P, rows
 
 from boxproof.errors import NoBox
 from boxproof.lines import boxes, opens
 
 LIKE_OPENING = (
-    "", "g", "gues", "guesss", "guess ", " guess", "guess0", "Guess", "GUESS", "ne", "new ", " new", "news", "newc", "New",
+    "", "g", "gues", "guesss", "guess ", " guess", "guess0", "Guess", "GUESS", "ne", "new ", " new", "news", "newc",
+    "New",
     "cas", "case ", "cases", "case0", "Case", "ew", "uess", "ase", "guess new", "new\n", "guesscase",
 )
 OTHER_RULES = (
-    "given", "again", "both", "left", "right", "either", "cases", "then", "use", "deny", "clash", "absurd", "any", "each",
+    "given", "again", "both", "left", "right", "either", "cases", "then", "use", "deny", "clash", "absurd", "any",
+    "each",
     "every", "some", "one", "nonsuch",
 )
-
-
-def rows(*pairs):
-    """Lines of these levels and rules, as a tuple; what else stands in them is no affair of their boxes."""
-    return tuple((level, rule, None if rule == "new" else P, ()) for level, rule in pairs)
-
-
-def plain_boxes(lines):
-    """The boxes by point 32 word for word, or None where the lines are no derivation's."""
-    told = []
-    for k, (level, rule, statement, refs) in enumerate(lines):
-        ahead = told[-1] if told else []
-        if level < 0 or (rule in ("guess", "new", "case") and level == 0):
-            return None
-        wanted = level - 1 if rule in ("guess", "new", "case") else level
-        if len(ahead) < wanted:
-            return None
-        told.append([ahead[place] for place in range(wanted)] + ([k] if wanted == level - 1 else []))
-    return tuple(tuple(one) for one in told)
 
 
 class Opening(unittest.TestCase):

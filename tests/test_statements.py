@@ -13,7 +13,9 @@ NAMES = (
     "nots", "no", "nott", "an", "ands", "o", "ors", "the", "thens", "al", "alls", "som", "somes", "fals", "falses",
     "not0", "and1", "or2", "then3", "all4", "some5", "false6", "true", "none",
 )
-LETTERS = ("A", "Z", "X", "Y2", "X0", "Xabc", "Abcdefgh", "A2345678", "Not", "And", "Or", "Then", "All", "Some", "False")
+LETTERS = (
+    "A", "Z", "X", "Y2", "X0", "Xabc", "Abcdefgh", "A2345678", "Not", "And", "Or", "Then", "All", "Some", "False",
+)
 NEITHER = (
     "", " ", "\n", "\t", "0", "9", "0a", "1X", "aB", "aBc", "abC", "tomT", "XY", "XyZ", "X1Y", "abcdefghi", "a23456789",
     "Abcdefghi", "A23456789", "AB", "a b", " a", "a ", "a\n", "a\t", "\na", "\ta", "X\n", "X\t", "X ", " X", "\nX",

@@ -162,7 +162,9 @@ class Holding(unittest.TestCase):
         self.holds_not("all X q", "some X false", "some Y all X loves(X, Y)", "some X (man(X) and loves(ann, X))")
 
     def test_an_all_or_some_within_one_of_that_letter(self):
-        self.holds("all X some X man(X)", "some X (man(X) and some X not man(X))", "some X (not man(X) and some X man(X))")
+        self.holds(
+            "all X some X man(X)", "some X (man(X) and some X not man(X))", "some X (not man(X) and some X man(X))",
+        )
         self.holds("some X (some X not man(X) and man(X))", "all X (some X man(X) and some X not man(X))")
         self.holds_not("some X all X man(X)", "all X (some X man(X) and man(X))", "some X (all X man(X) or false)")
         self.holds("all X (all X man(X) then man(X))", "some X (some X loves(X, ann) and not loves(X, ann))")
@@ -186,14 +188,17 @@ class Holding(unittest.TestCase):
             "all X some Y r(X, Y)", "some Y all X r(X, Y)", "all X all Y (r(X, Y) then r(Y, X))",
             "all X all Y all Z ((r(X, Y) and r(Y, Z)) then r(X, Z))", "some X all Y (r(X, Y) then some X r(Y, X))",
             "all X (some Y r(X, Y) then some Y (r(Y, X) and all X r(X, Y)))", "some X (r(X, a) and all Y r(Y, X))",
-            "all X (p(X) or some Y (r(X, Y) and all X (p(X) then r(X, Y))))", "all X some Y (r(X, Y) and some X r(X, a))",
+            "all X (p(X) or some Y (r(X, Y) and all X (p(X) then r(X, Y))))",
+            "all X some Y (r(X, Y) and some X r(X, a))",
             "all Y (some X (r(X, Y) and some X r(Y, X)) then r(Y, Y))", "all X all Y some X (r(X, Y) and p(X))",
         )
         statements = [read(text) for text in texts]
         for size in (1, 2):
             for world in small_worlds(size, ("a",), (("p", 1), ("r", 2))):
                 for statement in statements:
-                    self.assertIs(holds(world, statement), plainly(world, statement, dict(world[1])), (world, statement))
+                    self.assertIs(
+                        holds(world, statement), plainly(world, statement, dict(world[1])), (world, statement),
+                    )
 
     def test_three_terms_and_forty_things(self):
         every = tuple(("r", (a, b, c)) for a in range(40) for b in range(40) for c in range(40))

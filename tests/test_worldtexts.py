@@ -110,7 +110,9 @@ class Reading(unittest.TestCase):
 
     def test_no_row_of_things(self):
         self.refuse("", "\n", " ", "   \n\n", "p\n", "a is 0\n", "p 0\n", "a is 0\np 0\n", "1\n", "is\n", "thing 1\n")
-        self.refuse("things\n", "things 1 1\n", "things is 1\n", "things is 0\n", "things is\n", "Things 1\n", "1 things\n")
+        self.refuse(
+            "things\n", "things 1 1\n", "things is 1\n", "things is 0\n", "things is\n", "Things 1\n", "1 things\n",
+        )
         self.refuse("things\n1\n", "things X\n", "things things\n", "things one\n")
 
     def test_two_rows_of_things(self):
@@ -119,13 +121,19 @@ class Reading(unittest.TestCase):
         self.refuse("things 2\nthings 1\na is 0\n", "things 3\nthings 2\nthings 1\n", "things 3\nthings 1\nthings 1\n")
 
     def test_how_numbers_are_written(self):
-        for wrong in ("00", "01", "02", "0001", "00000", "10000", "99999", "+1", "-1", "-0", "+0", "1.", "1.0", "1e0", "1_0"):
+        for wrong in (
+            "00", "01", "02", "0001", "00000", "10000", "99999", "+1", "-1", "-0", "+0", "1.", "1.0", "1e0", "1_0",
+        ):
             self.refuse("things " + wrong + "\n")
             for size in ("2", "9999"):
                 self.refuse("things " + size + "\na is " + wrong + "\n", "things " + size + "\np " + wrong + "\n")
                 self.refuse("things " + size + "\np 0 " + wrong + "\n", "things " + size + "\np 0 0 " + wrong + "\n")
-        self.refuse("things 1" + "0" * 5000 + "\n", "things 2\np " + "1" * 5000 + "\n", "things 2\na is " + "0" * 5000 + "\n")
-        self.refuse("things 2\na is b\n", "things 2\np b\n", "things 2\np X\n", "things 2\na is X\n", "things 2\np 1a\n")
+        self.refuse(
+            "things 1" + "0" * 5000 + "\n", "things 2\np " + "1" * 5000 + "\n", "things 2\na is " + "0" * 5000 + "\n",
+        )
+        self.refuse(
+            "things 2\na is b\n", "things 2\np b\n", "things 2\np X\n", "things 2\na is X\n", "things 2\np 1a\n",
+        )
 
     def test_a_row_of_three_whose_second_is_is(self):
         self.assertEqual(read_world("things 2\np is 1\n"), (2, (("p", 1),), ()))
@@ -136,14 +144,18 @@ class Reading(unittest.TestCase):
 
     def test_no_fit_world(self):
         self.refuse("things 0\n", "things 0\np\n")
-        self.refuse("things 2\na is 2\n", "things 2\np 2\n", "things 2\np 0 2\n", "things 2\np 0 0 2\n", "things 2\np 9999\n")
+        self.refuse(
+            "things 2\na is 2\n", "things 2\np 2\n", "things 2\np 0 2\n", "things 2\np 0 0 2\n", "things 2\np 9999\n",
+        )
         self.refuse("things 2\np 0 0 0 0\n", "things 2\np 0 1 0 1 0\n", "things 2\np" + " 0" * 5000 + "\n")
         self.assertEqual(read_world("things 2\np 0 0 0\n"), (2, (), (("p", (0, 0, 0)),)))
 
     def test_names_or_facts_out_of_order_or_twice(self):
         self.refuse("things 2\nb is 0\na is 0\n", "things 2\na is 0\na is 0\n", "things 2\na is 0\na is 1\n")
         self.refuse("things 2\nq\np\n", "things 2\np\np\n", "things 2\np 1\np 0\n", "things 2\np 0\np 0\n")
-        self.refuse("things 2\np 0\np\n", "things 2\np 0 0\np 0\n", "things 12\np 10\np 2\n", "things 2\nb2 is 0\nb10 is 0\n")
+        self.refuse(
+            "things 2\np 0\np\n", "things 2\np 0 0\np 0\n", "things 12\np 10\np 2\n", "things 2\nb2 is 0\nb10 is 0\n",
+        )
 
     def test_no_name_and_no_word(self):
         for text in NO_WORDS:

@@ -1,0 +1,60 @@
+"""Derivations in which each line follows, one for each thing that a rule may take, written as texts."""
+
+from boxproof.linetexts import read_lines
+
+# The rule of the last line, and the text.
+TEXTS = (
+    ("given", "p ; given"),
+    ("given", "p ; given\nall X f(X) ; given\np ; given"),
+    ("guess", "| p ; guess"),
+    ("guess", "p ; given\n| q ; guess\n| | false ; guess"),
+    ("new", "| ; new c"),
+    ("new", "f(a) ; given\n| ; new b\n| | ; new c"),
+    ("case", "| p ; case c"),
+    ("case", "some X f(X) ; given\n| f(c) ; case c"),
+    ("case", "some X f(X) ; given\n| f(c) ; case c\n| | r(d, c) ; case d"),
+    ("again", "p ; given\np ; again 0"),
+    ("again", "p ; given\n| q ; guess\n| p ; again 0"),
+    ("both", "p ; given\nq ; given\n(p and q) ; both 0 1"),
+    ("both", "p ; given\nq ; given\n(q and p) ; both 1 0"),
+    ("both", "p ; given\n(p and p) ; both 0 0"),
+    ("left", "(p and q) ; given\np ; left 0"),
+    ("right", "(p and q) ; given\nq ; right 0"),
+    ("either", "p ; given\n(p or q) ; either 0"),
+    ("either", "p ; given\n(q or p) ; either 0"),
+    ("either", "p ; given\n(p or p) ; either 0"),
+    ("cases", "(p or q) ; given\nr ; given\n| p ; guess\n| r ; again 1\n| q ; guess\n| r ; again 1\nr ; cases 0 2 4"),
+    ("cases", "(p or q) ; given\nr ; given\n| q ; guess\n| r ; again 1\n| p ; guess\n| r ; again 1\nr ; cases 0 4 2"),
+    ("cases", "(p or p) ; given\n| p ; guess\np ; cases 0 1 1"),
+    ("then", "| p ; guess\n(p then p) ; then 0"),
+    ("then", "q ; given\n| p ; guess\n| q ; again 0\n(p then q) ; then 1"),
+    ("then", "| p ; guess\n| | q ; guess\n| | p ; again 0\n| (q then p) ; then 1\n(p then (q then p)) ; then 0"),
+    ("use", "(p then q) ; given\np ; given\nq ; use 0 1"),
+    ("deny", "not p ; given\n| p ; guess\n| false ; clash 1 0\nnot p ; deny 1"),
+    ("deny", "| false ; guess\nnot false ; deny 0"),
+    ("clash", "p ; given\nnot p ; given\nfalse ; clash 0 1"),
+    ("absurd", "not not p ; given\n| not p ; guess\n| false ; clash 1 0\np ; absurd 1"),
+    ("any", "false ; given\nall X r(X, a) ; any 0"),
+    ("any", "false ; given\nfalse ; any 0"),
+    ("each", "all X r(X, b) ; given\nr(a, b) ; each 0 a"),
+    ("each", "all X r(X, b) ; given\nr(b, b) ; each 0 b"),
+    ("each", "all X (f(X) and all X f(X)) ; given\n(f(a) and all X f(X)) ; each 0 a"),
+    ("each", "all X p ; given\np ; each 0 c"),
+    ("every", "all X f(X) ; given\n| ; new c\n| f(c) ; each 0 c\nall Y f(Y) ; every 1"),
+    ("every", "p ; given\n| ; new c\n| p ; again 0\nall X p ; every 1"),
+    ("every", "all X all Y r(X, Y) ; given\n| ; new c\n| all Y r(c, Y) ; each 0 c\n| r(c, c) ; each 2 c\nall X r(X, X) ; every 1"),
+    ("some", "r(a, b) ; given\nsome X r(X, b) ; some 0 a"),
+    ("some", "r(a, a) ; given\nsome X r(X, a) ; some 0 a"),
+    ("some", "r(a, a) ; given\nsome X r(X, X) ; some 0 a"),
+    ("some", "p ; given\nsome X p ; some 0 c"),
+    ("one", "some X f(X) ; given\n| f(c) ; case c\n| some Y f(Y) ; some 1 c\nsome Y f(Y) ; one 0 1"),
+    ("one", "some X p ; given\n| p ; case c\np ; one 0 1"),
+    ("one", "some X r(X, a) ; given\nq ; given\n| r(c, a) ; case c\n| q ; again 1\nq ; one 0 2"),
+)
+
+DERIVATIONS = tuple((rule, read_lines(text)) for rule, text in TEXTS)
+EACH_RULE = (
+    "given", "guess", "new", "case", "again", "both", "left", "right", "either", "cases", "then", "use", "deny",
+    "clash",
+    "absurd", "any", "each", "every", "some", "one",
+)
