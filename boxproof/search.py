@@ -297,7 +297,7 @@ class Search:
         self.add_node((self.nodes[first][0], "or", of, None, pieces(of)[1:]), self.reasons[first], self.ranks[first])
 
     def leave_out(self, first, second):
-        for node in range(first, second + 1):
+        for node in range(first, second):
             self.needed[node] = False
 
 

@@ -109,6 +109,21 @@ TEXTS = (
 
 QUESTIONS = tuple((tuple(read(text) for text in givens), read(goal), most, end) for givens, goal, most, end in TEXTS)
 
+# Wolves, foxes, birds, caterpillars, snails and grain, and who eats whom: an old riddle for searchers like this one.
+RIDDLE = tuple(read(text) for text in (
+    "all X (wolf(X) then animal(X))", "some X wolf(X)", "all X (fox(X) then animal(X))", "some X fox(X)",
+    "all X (bird(X) then animal(X))", "some X bird(X)", "all X (worm(X) then animal(X))", "some X worm(X)",
+    "all X (snail(X) then animal(X))", "some X snail(X)", "all X (grain(X) then plant(X))", "some X grain(X)",
+    "all X (animal(X) then (all Y (plant(Y) then eats(X, Y)) or all Y (((animal(Y) and smaller(Y, X)) "
+    "and some Z (plant(Z) and eats(Y, Z))) then eats(X, Y))))",
+    "all X all Y ((bird(Y) and (snail(X) or worm(X))) then smaller(X, Y))",
+    "all X all Y ((bird(X) and fox(Y)) then smaller(X, Y))", "all X all Y ((fox(X) and wolf(Y)) then smaller(X, Y))",
+    "all X all Y ((wolf(X) and (fox(Y) or grain(Y))) then not eats(X, Y))",
+    "all X all Y ((bird(X) and worm(Y)) then eats(X, Y))", "all X all Y ((bird(X) and snail(Y)) then not eats(X, Y))",
+    "all X ((worm(X) or snail(X)) then some Y (plant(Y) and eats(X, Y)))",
+))
+RIDDLE_GOAL = read("some X some Y ((animal(X) and animal(Y)) and some Z (grain(Z) and (eats(Y, Z) and eats(X, Y))))")
+
 
 def by_chance(chance, letters, names, deepest):
     """A statement in which no letters but these are free."""

@@ -2,7 +2,7 @@ import itertools
 import unittest
 
 from plain_trees import branch_of, by_and, by_open, by_or, by_use, can_be_shut, names_of, steps_left, wrong_in
-from questions import QUESTIONS, pigeons, questions_by_chance, words_in
+from questions import QUESTIONS, RIDDLE, RIDDLE_GOAL, pigeons, questions_by_chance, words_in
 from samples import CHAIN_RULES, FALSE, P, Q, chain, small_worlds
 
 from boxproof.flat import flat, to_open
@@ -278,6 +278,9 @@ class Bounds(Checked):
         for many in (2, 3, 4):
             self.expect(pigeons(many), FALSE, 1, "shut")
             self.expect(pigeons(many)[1:], FALSE, 1, "done")
+
+    def test_a_riddle(self):
+        self.expect(RIDDLE, RIDDLE_GOAL, 8, "shut")
 
     def test_thirty_deep(self):
         for rule in CHAIN_RULES:

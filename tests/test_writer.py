@@ -1,7 +1,7 @@
 import unittest
 
 from plain_steps import plain_boxes, plainly_follows
-from questions import QUESTIONS, pigeons, questions_by_chance
+from questions import QUESTIONS, RIDDLE, RIDDLE_GOAL, pigeons, questions_by_chance
 from refusals import refused_with
 from samples import CHAIN_RULES, FALSE, P, Q, chain
 
@@ -237,6 +237,9 @@ class Long(Written):
             deepest = max(len(path) for path in boxes(lines))
             self.assertGreater(deepest, 39)
             self.assertLess(deepest, 500)
+
+    def test_a_riddle(self):
+        self.expect(RIDDLE, RIDDLE_GOAL)
 
     def test_thirty_deep(self):
         for rule in CHAIN_RULES:
